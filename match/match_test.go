@@ -8,6 +8,7 @@ import (
 
 	"homograph/api"
 	"homograph/byteset"
+	"homograph/drawn"
 	"homograph/match"
 	"homograph/pattern"
 	"homograph/regex"
@@ -59,7 +60,7 @@ func everywhere(t *testing.T, check func(n api.Node, s string, want table)) {
 	for i, n := range patterns(t) {
 		for j, s := range texts() {
 			// All texts for the patterns that are written out, and some for the others.
-			if i < len(patternTexts()) || (i+j)%9 == 0 {
+			if i < len(drawn.PatternTexts()) || (i+j)%9 == 0 {
 				check(n, s, tableOf(n, s))
 			}
 		}

@@ -2,10 +2,10 @@ package match_test
 
 import (
 	"slices"
-	"strings"
 	"testing"
 
 	"homograph/api"
+	"homograph/drawn"
 	"homograph/pattern"
 	"homograph/regex"
 )
@@ -126,96 +126,27 @@ func (t table) cut(s string, from int) []string {
 	return []string{s[from:]}
 }
 
-// source makes numbers that are the same in each run.
-type source uint64
-
-func (s *source) below(n int) int {
-	*s = *s*6364136223846793005 + 1442695040888963407
-	return int(uint64(*s) >> 33 % uint64(n))
-}
-
-// pattern makes a valid pattern of at most so many levels.
-func (s *source) pattern(levels int) api.Node {
-	kinds := 3
-	if levels > 1 {
-		kinds = 9
-	}
-	kid := func() api.Node { return s.pattern(levels - 1) }
-	kids := func() []api.Node {
-		var l []api.Node
-		for range s.below(4) {
-			l = append(l, kid())
-		}
-		return l
-	}
-	switch s.below(kinds) {
-	case 3:
-		return regex.Alt(kids()...)
-	case 4:
-		return regex.And(kids()...)
-	case 5:
-		return regex.Not(kid())
-	case 6:
-		least := s.below(4)
-		return regex.Rep(kid(), least, []int{-1, -7, least, least + 1, least + 3}[s.below(5)])
-	case 7:
-		return regex.Rep(kid(), s.below(2), -1)
-	case 8:
-		return regex.Cat(kids()...)
-	}
-	return one([]string{"", "a", "b", "ab", "c"}[s.below(5)])
-}
-
-// text makes a text of at most so many bytes.
-func (s *source) text(most int) string {
-	var out strings.Builder
-	for range s.below(most + 1) {
-		out.WriteByte("aaabbc"[s.below(6)])
-	}
-	return out.String()
-}
-
-// patternTexts are patterns of all kinds, the edges first.
-func patternTexts() []string {
-	return []string{
-		"", "()", "[]", "[^]*", "[^]", ".", "a", "[ab]", "~a", "~~a", "~()", "~[]", "~[^]*", "~~~[^]",
-		"ab", "a()b", "a|b", "a|", "|", "a|ab|abb", "a&a", "a&b", "[ab]*&~b", "[ab]&[bc]", "&", "(ab|a)(b|)",
-		"a*", "a+", "a?", "a{0}", "a{1}", "a{2}", "a{2,}", "a{0,2}", "a{2,3}", "a{32}", "a{0,32}", "a{3,32}",
-		"()*", "()+", "(){3}", "(){3,5}", "[]*", "[]+", "[]?", "[]{2,}", "([^]*)*", "([^]*){2}",
-		"(a*)*", "(a+)+", "(a?)+", "(a?){2}", "(a?){3,}", "(a?){2,3}", "(a*){2}", "(a|){3,4}", "(a{2}){2}", "(a{2,3}){2,3}",
-		"(a|aa)*", "(a|aa){2}", "(a|aa){2,3}", "(aa|aaa){2,}", "(ab|a|b){3}", "((a|bb){2}|b){2}", "((a|b){1,2}b){1,2}",
-		"(~a)*", "(~a)+", "(~a){2}", "(~()){2}", "(~()){2,3}", "~(a*)", "~a*", "~(a*)b", "a~b", "~ab", "a~bc", "~a~b", "~(~ab)", "~(a~b)", "(a~b)*", "~((~a)*)", "~(~a{2})", "~(.*~(a.*))",
-		"[ab]*&[bc]*", "(a|ab)&(ab|b)", "(a*&~())*", "(a*&~(aa))*", "a([ab]*&~(.*bb.*))", "(a&~b|b&~a)*", "~(a*)&~(b*)", "(a*&(aa)*)b", "(aa)*&(aaa)*",
-		"(a*b?)*", "(a*b?){2,3}", "(ab?)*c", ".*b.*", ".*a", "a.*", ".*(ab|ba)", "(b|ab)*&.{2}",
-	}
-}
-
 // patterns are valid patterns of all shapes.
 func patterns(t *testing.T) []api.Node {
 	t.Helper()
 	var l []api.Node
-	for _, s := range patternTexts() {
+	for _, s := range drawn.PatternTexts() {
 		l = append(l, parse(t, s))
 	}
 	l = append(l, regex.And(), regex.Alt(), regex.Cat(), regex.Rep(regex.Cat(), 32, 32), regex.Rep(one("ab"), 1, -32))
-	s := source(4)
+	s := drawn.Source(4)
 	for range 1500 {
-		l = append(l, s.pattern(1+s.below(5)))
+		l = append(l, s.Pattern(1+s.Below(5)))
 	}
 	return l
 }
 
 // texts are all texts of at most three of some bytes, and longer ones.
 func texts() []string {
-	l := []string{""}
-	for i := 0; i < len(l) && len(l[i]) < 3; i++ {
-		for _, b := range "abc" {
-			l = append(l, l[i]+string(b))
-		}
-	}
-	s := source(5)
+	l := drawn.Texts("abc", 3)
+	s := drawn.Source(5)
 	for range 12 {
-		l = append(l, s.text(8))
+		l = append(l, s.Text(8))
 	}
 	return append(l, "aaaaaaaa", "abababab", "aab", "abba")
 }

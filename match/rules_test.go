@@ -7,20 +7,13 @@ import (
 	"unsafe"
 
 	"homograph/api"
+	"homograph/drawn"
 	"homograph/match"
 	"homograph/pattern"
 	"homograph/regex"
 )
 
 // Rule 1: every call returns, also of deep patterns and long texts.
-
-// nested is a pattern inside so many others.
-func nested(n api.Node, levels int, outer func(api.Node) api.Node) api.Node {
-	for range levels {
-		n = outer(n)
-	}
-	return n
-}
 
 // outers put a pattern one level or two deeper, so that a step of a level would take a step or more of the one below it.
 func outers() map[string]func(api.Node) api.Node {
@@ -48,10 +41,10 @@ func outers() map[string]func(api.Node) api.Node {
 func TestDeepPatterns(t *testing.T) {
 	for name, outer := range outers() {
 		levels := 0
-		for regex.Check(nested(one("a"), levels+1, outer)) == api.OK {
+		for regex.Check(drawn.Nested(one("a"), levels+1, outer)) == api.OK {
 			levels++
 		}
-		n := nested(one("a"), levels, outer)
+		n := drawn.Nested(one("a"), levels, outer)
 		for _, s := range []string{"", "a", "aaab", strings.Repeat("a", 40), strings.Repeat("ab", 20)} {
 			ends := match.Ends(n, s, 0)
 			rest := slices.DeleteFunc(upTo(0, len(s)), func(to int) bool { return slices.Contains(ends, to) })
@@ -60,16 +53,16 @@ func TestDeepPatterns(t *testing.T) {
 			}
 		}
 		for _, s := range []string{"", "a", "aaba"} {
-			small := nested(one("a"), 4, outer)
+			small := drawn.Nested(one("a"), 4, outer)
 			mustEnd(t, small, s, 0, tableOf(small, s).ends(0))
 		}
 	}
-	mustEnd(t, nested(one("a"), 63, regex.Not), "ab", 0, []int{0, 2})
-	mustEnd(t, nested(one("a"), 62, regex.Not), "ab", 0, []int{1})
-	mustEnd(t, nested(one("a"), 63, outers()["+"]), "aaab", 0, upTo(1, 3))
-	mustEnd(t, nested(one("a"), 63, outers()["*"]), "aaab", 0, upTo(0, 3))
-	mustEnd(t, nested(one("a"), 5, outers()["{2}"]), strings.Repeat("a", 40), 0, []int{32})
-	mustEnd(t, nested(one("a"), 31, outers()["{2} of an Alt"]), strings.Repeat("a", 40), 0, upTo(2, 40))
+	mustEnd(t, drawn.Nested(one("a"), 63, regex.Not), "ab", 0, []int{0, 2})
+	mustEnd(t, drawn.Nested(one("a"), 62, regex.Not), "ab", 0, []int{1})
+	mustEnd(t, drawn.Nested(one("a"), 63, outers()["+"]), "aaab", 0, upTo(1, 3))
+	mustEnd(t, drawn.Nested(one("a"), 63, outers()["*"]), "aaab", 0, upTo(0, 3))
+	mustEnd(t, drawn.Nested(one("a"), 5, outers()["{2}"]), strings.Repeat("a", 40), 0, []int{32})
+	mustEnd(t, drawn.Nested(one("a"), 31, outers()["{2} of an Alt"]), strings.Repeat("a", 40), 0, upTo(2, 40))
 }
 
 func TestLongTexts(t *testing.T) {
@@ -113,9 +106,9 @@ func TestLongTexts(t *testing.T) {
 
 // A derivative may be deeper than a pattern may be.
 func TestPatternsBeyondTheGreatestDepth(t *testing.T) {
-	mustEnd(t, nested(one("a"), 1000, regex.Not), "ab", 0, []int{1})
-	mustEnd(t, nested(one("a"), 200, outers()["Cat"]), "ab", 0, []int{1})
-	mustEnd(t, nested(one("a"), 200, outers()["+"]), "aab", 0, []int{1, 2})
+	mustEnd(t, drawn.Nested(one("a"), 1000, regex.Not), "ab", 0, []int{1})
+	mustEnd(t, drawn.Nested(one("a"), 200, outers()["Cat"]), "ab", 0, []int{1})
+	mustEnd(t, drawn.Nested(one("a"), 200, outers()["+"]), "aab", 0, []int{1, 2})
 }
 
 // Of a pattern that isn't valid nothing is promised, but a call ends all the same.
@@ -141,38 +134,9 @@ func TestWhatIsNotValid(t *testing.T) {
 
 // Rule 3: arguments are neither modified nor retained, and results are in new memory.
 
-// roomy is a pattern whose lists all have more room than they use, with nodes beyond their ends.
-func roomy(n api.Node) api.Node {
-	kids := make([]api.Node, len(n.Kids), len(n.Kids)+2)
-	for i, kid := range n.Kids {
-		kids[i] = roomy(kid)
-	}
-	for i := range kids[:cap(kids)][len(kids):] {
-		kids[:cap(kids)][len(kids)+i] = api.Node{Op: api.OpAlt, Min: 5, Max: i}
-	}
-	n.Kids = kids
-	return n
-}
-
-// whole tells whether two patterns are the same in all that their lists have, also beyond their ends.
-func whole(a, b api.Node) bool {
-	if a.Op != b.Op || a.Set != b.Set || a.Min != b.Min || a.Max != b.Max || len(a.Kids) != len(b.Kids) {
-		return false
-	}
-	return slices.EqualFunc(a.Kids[:cap(a.Kids)], b.Kids[:cap(b.Kids)], whole)
-}
-
-// spoil overwrites all of a pattern's lists.
-func spoil(n api.Node) {
-	for i, kid := range n.Kids {
-		spoil(kid)
-		n.Kids[i] = api.Node{Op: api.OpNot, Kids: []api.Node{regex.Cat()}}
-	}
-}
-
 func TestArgumentsAreNotModified(t *testing.T) {
 	for _, n := range patterns(t) {
-		arg, before := roomy(n), roomy(n)
+		arg, before := drawn.Roomy(n), drawn.Roomy(n)
 		for _, s := range []string{"", "aabab"} {
 			match.Ends(arg, s, 0)
 			match.Whole(arg, s)
@@ -180,7 +144,7 @@ func TestArgumentsAreNotModified(t *testing.T) {
 			match.First(arg, s, 0)
 			match.Cut(arg, s)
 		}
-		if !whole(arg, before) {
+		if !drawn.Whole(arg, before) {
 			t.Fatalf("a call modified %s", pattern.Show(n))
 		}
 	}
@@ -188,11 +152,11 @@ func TestArgumentsAreNotModified(t *testing.T) {
 
 func TestNothingIsKeptFromCallToCall(t *testing.T) {
 	for _, n := range patterns(t) {
-		arg, s := roomy(n), "aabab"
+		arg, s := drawn.Roomy(n), "aabab"
 		ends, pieces := match.Ends(arg, s, 0), match.Cut(arg, s)
 		wantEnds, wantPieces := slices.Clone(ends), slices.Clone(pieces)
 		// Another pattern in the same memory, which must be matched as what it is.
-		spoil(arg)
+		drawn.Spoil(arg)
 		mustEnd(t, arg, s, 0, tableOf(arg, s).ends(0))
 		mustCut(t, arg, s, tableOf(arg, s).cut(s, 0)...)
 		if !slices.Equal(ends, wantEnds) || !slices.Equal(pieces, wantPieces) {
