@@ -1,0 +1,191 @@
+package dfa_test
+
+import (
+	"slices"
+	"testing"
+
+	"homograph/api"
+	"homograph/dfa"
+	"homograph/drawn"
+	"homograph/match"
+	"homograph/pattern"
+	"homograph/regex"
+)
+
+// Rule 1: every call returns, also of deep patterns and wide ones.
+
+func TestDeepPatterns(t *testing.T) {
+	a, ab := one("a"), regex.Lit("ab")
+	for name, outer := range map[string]func(api.Node) api.Node{
+		"Not":          regex.Not,
+		"Cat":          func(n api.Node) api.Node { return regex.Cat(n) },
+		"Cat of two":   func(n api.Node) api.Node { return regex.Cat(n, a) },
+		"Alt":          func(n api.Node) api.Node { return regex.Alt(n, ab) },
+		"And":          func(n api.Node) api.Node { return regex.And(n, regex.Rep(a, 0, -1)) },
+		"*":            func(n api.Node) api.Node { return regex.Rep(n, 0, -1) },
+		"+":            func(n api.Node) api.Node { return regex.Rep(n, 1, -1) },
+		"?":            func(n api.Node) api.Node { return regex.Rep(n, 0, 1) },
+		"* in a Not":   func(n api.Node) api.Node { return regex.Not(regex.Rep(n, 0, -1)) },
+		"Not in a Cat": func(n api.Node) api.Node { return regex.Cat(a, regex.Not(n)) },
+	} {
+		n := a
+		for regex.Check(outer(n)) == api.OK {
+			n = outer(n)
+		}
+		want, ok := machineOf(n, 80)
+		if !ok {
+			t.Fatalf("%s is nested too deep", name)
+		}
+		mustMake(t, n, want)
+		small := drawn.Nested(a, 3, outer)
+		for _, s := range drawn.Texts("ab", 5) {
+			mustBeWhole(t, made(t, small), s, match.Whole(small, s))
+		}
+		if t.Failed() {
+			t.Fatalf("wrong with many times %s", name)
+		}
+	}
+}
+
+func TestManyKids(t *testing.T) {
+	var names []api.Node
+	for i := range 2000 {
+		names = append(names, regex.Lit(string([]byte{byte(i), byte(i / 256), 'x', byte(i % 7)})))
+	}
+	m, e := dfa.Of(regex.Alt(names...), api.MaxStates)
+	if e != api.OK || dfa.Check(m) != api.OK {
+		t.Fatalf("Of: %d", e)
+	}
+	for i := range 2000 {
+		for last := range 7 {
+			s := string([]byte{byte(i), byte(i / 256), 'x', byte(last)})
+			if dfa.Whole(m, s) != (last == i%7) || dfa.Whole(m, s[:3]) {
+				t.Fatalf("%q is one of the names: %t", s, last == i%7)
+			}
+		}
+	}
+}
+
+// Rule 3: arguments are neither modified nor retained, and results are in new memory.
+
+func TestOfDoesNotModifyPatterns(t *testing.T) {
+	invalid := regex.Cat(one("a"), regex.Rep(one("a"), 3, 2))
+	for _, n := range append(patterns(t, 600), invalid, regex.Lit("abcdefgh")) {
+		for _, limit := range []int{1, 3, 300} {
+			arg, before := drawn.Roomy(n), drawn.Roomy(n)
+			got, e := dfa.Of(arg, limit)
+			if !drawn.Whole(arg, before) {
+				t.Fatalf("Of modified %s", pattern.Show(n))
+			}
+			want := copied(got)
+			drawn.Spoil(arg)
+			if again, f := dfa.Of(n, limit); !same(got, want) || !same(again, want) || e != f {
+				t.Fatalf("Of(%s) changed with its argument", pattern.Show(n))
+			}
+		}
+	}
+}
+
+// roomy is a machine whose lists all have more room than they use, with arcs and states beyond their ends.
+func roomy(m api.Machine) api.Machine {
+	states := make(api.Machine, len(m), len(m)+1)
+	states[:len(m)+1][len(m)] = state(5, arc('a', 'a', 0))
+	for i, s := range m {
+		arcs := append(slices.Clone(s.Arcs), arc('a', 'b', 0), arc('b', 'z', 1))
+		states[i] = state(s.Accept, arcs[:len(s.Arcs)]...)
+	}
+	return states
+}
+
+// beyond is all that a roomy machine has, also beyond the ends of its lists.
+func beyond(m api.Machine) api.Machine {
+	all := slices.Clone(m[:len(m)+1])
+	for i := range m {
+		all[i].Arcs = m[i].Arcs[:len(m[i].Arcs)+2]
+	}
+	return all
+}
+
+func TestMachinesAreNotModified(t *testing.T) {
+	s := drawn.Source(5)
+	for i := range 1000 {
+		m := odd(&s)
+		if i%2 == 0 {
+			m = sound(&s)
+		}
+		arg, want := roomy(m), copied(beyond(roomy(m)))
+		e, next, text := dfa.Check(arg), dfa.Next(arg, 0, 'a'), bytesOf(&s, 9)
+		at, whole := dfa.Run(arg, text), dfa.Whole(arg, text)
+		if !same(beyond(arg), want) {
+			t.Fatalf("a call modified %v", m)
+		}
+		// Another machine in the same memory must be walked as what it is.
+		for j := range arg {
+			arg[j] = state(1, arc(0, 255, j))
+		}
+		mustCheck(t, "another machine", arg, api.OK)
+		mustRun(t, arg, text, min(len(m), 1)-1)
+		mustBeWhole(t, arg, text, len(m) > 0)
+		mustCheck(t, "the same machine again", m, e)
+		mustNext(t, m, 0, 'a', next)
+		mustRun(t, m, text, at)
+		mustBeWhole(t, m, text, whole)
+	}
+}
+
+// spoil overwrites the whole room of a machine's lists.
+func spoil(m api.Machine) {
+	for i := range m {
+		arcs := m[i].Arcs[:cap(m[i].Arcs)]
+		for j := range arcs {
+			arcs[j] = arc('q', 'q', 77)
+		}
+	}
+	m = m[:cap(m)]
+	for i := range m {
+		m[i] = state(9)
+	}
+}
+
+func TestListsOfMachinesAreApart(t *testing.T) {
+	for _, n := range append(patterns(t, 400), parse(t, "[ab]*a[ab]{4}"), regex.Lit("aaaaaaaa")) {
+		m, e := dfa.Of(n, 300)
+		if e != api.OK {
+			continue
+		}
+		want := copied(m)
+		for i := range m {
+			arcs := m[i].Arcs[:cap(m[i].Arcs)]
+			for j := range arcs {
+				arcs[j] = arc('q', 'q', 77)
+			}
+			m[i].Arcs = nil
+			for j := i + 1; j < len(m); j++ {
+				if !slices.Equal(m[j].Arcs, want[j].Arcs) {
+					t.Fatalf("states %d and %d of %s share memory", i, j, pattern.Show(n))
+				}
+			}
+		}
+	}
+}
+
+func TestNothingIsKeptFromCallToCall(t *testing.T) {
+	for _, n := range patterns(t, 400) {
+		m, e := dfa.Of(n, 300)
+		want := copied(m)
+		spoil(m)
+		if again, f := dfa.Of(n, 300); e != f || !same(again, want) {
+			t.Fatalf("Of(%s) changed with an earlier result", pattern.Show(n))
+		}
+	}
+	to := table(-1, arc('a', 'c', 1), arc('d', 'f', 2), arc(255, 255, 0))
+	first, second := dfa.Arcs(to), dfa.Arcs(to)
+	all := first[:cap(first)]
+	for i := range all {
+		all[i] = arc('q', 'q', 77)
+	}
+	if !slices.Equal(second, arcsOf(to)) {
+		t.Error("two lists of Arcs share memory")
+	}
+	mustArcs(t, "the same targets again", to, arcsOf(to)...)
+}
