@@ -91,7 +91,7 @@ func TestArcsOfDrawnTargets(t *testing.T) {
 				to[b] = s.Below(states+2) - 2
 			}
 		}
-		mustArcs(t, "drawn targets", to, arcsOf(to)...)
+		mustArcs(t, "drawn targets", to, drawn.ArcsOf(to)...)
 	}
 }
 
@@ -183,7 +183,7 @@ func TestCheckOfDrawnMachines(t *testing.T) {
 	s := drawn.Source(2)
 	accepted := 0
 	for range 20000 {
-		m := odd(&s)
+		m := s.OddMachine()
 		want := checkOf(m)
 		mustCheck(t, "a drawn machine", m, want)
 		if want == api.OK {
@@ -194,7 +194,7 @@ func TestCheckOfDrawnMachines(t *testing.T) {
 		t.Errorf("%d machines were accepted", accepted)
 	}
 	for range 300 {
-		m := sound(&s)
+		m := s.Machine(6)
 		mustCheck(t, "a sound machine", m, api.OK)
 		// An arc in two parts matches the same, but may not be.
 		at, whole := s.Below(len(m)), arc('k', 'p', s.Below(len(m)))

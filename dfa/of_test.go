@@ -22,7 +22,7 @@ import (
 func mustMake(t *testing.T, n api.Node, want api.Machine) {
 	t.Helper()
 	for _, limit := range []int{max(1, len(want)), api.MaxStates} {
-		if got, e := dfa.Of(n, limit); e != api.OK || !same(got, want) {
+		if got, e := dfa.Of(n, limit); e != api.OK || !drawn.SameMachines(got, want) {
 			t.Errorf("Of(%s, %d) = %v, %d, want %v", pattern.Show(n), limit, got, e, want)
 		}
 	}
@@ -169,7 +169,7 @@ func TestMachinesOfNormalForms(t *testing.T) {
 		if regex.Check(form) != api.OK {
 			t.Fatalf("the normal form of %s may not be", pattern.Show(n))
 		}
-		if got, f := dfa.Of(form, 100); e != f || !same(got, want) {
+		if got, f := dfa.Of(form, 100); e != f || !drawn.SameMachines(got, want) {
 			t.Fatalf("Of(%s) isn't that of its normal form", pattern.Show(n))
 		}
 	}

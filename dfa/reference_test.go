@@ -1,7 +1,6 @@
 package dfa_test
 
 import (
-	"math"
 	"slices"
 	"testing"
 
@@ -16,22 +15,6 @@ import (
 
 // one is a Set of the bytes of a text.
 func one(s string) api.Node { return regex.Set(byteset.Of(s)) }
-
-// arcsOf is what Arcs should tell: an arc for each byte, and then those that touch made one.
-func arcsOf(to [256]int) []api.Arc {
-	var l []api.Arc
-	for b, target := range to {
-		if target < 0 {
-			continue
-		}
-		if last := len(l) - 1; last >= 0 && int(l[last].Hi) == b-1 && l[last].To == target {
-			l[last].Hi = uint8(b)
-			continue
-		}
-		l = append(l, api.Arc{Lo: uint8(b), Hi: uint8(b), To: target})
-	}
-	return l
-}
 
 // nextOf is what Next should tell: from the last arc to the first one, the one that is seen last counts.
 func nextOf(m api.Machine, state int, b uint8) int {
@@ -77,7 +60,7 @@ func checkOf(m api.Machine) api.Errno {
 			to[b] = nextOf(m, state, uint8(b))
 		}
 		out := func(arc api.Arc) bool { return arc.To < 0 || arc.To >= len(m) || arc.Lo > arc.Hi }
-		if slices.ContainsFunc(s.Arcs, out) || !slices.Equal(s.Arcs, arcsOf(to)) {
+		if slices.ContainsFunc(s.Arcs, out) || !slices.Equal(s.Arcs, drawn.ArcsOf(to)) {
 			return api.ErrCode
 		}
 	}
@@ -109,7 +92,7 @@ func machineOf(n api.Node, most int) (api.Machine, bool) {
 				forms = append(forms, behind)
 			}
 		}
-		m = append(m, api.State{Accept: map[bool]uint64{true: 1}[deriv.Whole(forms[at], "")], Arcs: arcsOf(to)})
+		m = append(m, api.State{Accept: map[bool]uint64{true: 1}[deriv.Whole(forms[at], "")], Arcs: drawn.ArcsOf(to)})
 	}
 	return m, true
 }
@@ -152,61 +135,6 @@ func made(t *testing.T, n api.Node) api.Machine {
 	return m
 }
 
-// same tells whether two machines are the same.
-func same(a, b api.Machine) bool {
-	return slices.EqualFunc(a, b, func(a, b api.State) bool { return a.Accept == b.Accept && slices.Equal(a.Arcs, b.Arcs) })
-}
-
-// copied is a machine in new memory.
-func copied(m api.Machine) api.Machine {
-	m = slices.Clone(m)
-	for i := range m {
-		m[i].Arcs = slices.Clone(m[i].Arcs)
-	}
-	return m
-}
-
 func state(accept uint64, arcs ...api.Arc) api.State { return api.State{Accept: accept, Arcs: arcs} }
 
 func arc(lo, hi uint8, to int) api.Arc { return api.Arc{Lo: lo, Hi: hi, To: to} }
-
-// odd is a machine that nobody need accept: its arcs lead to what is no state, meet, and stand in any order.
-func odd(s *drawn.Source) api.Machine {
-	var m api.Machine
-	bytes := []uint8{0, 1, 'a', 'b', 'c', 254, 255}
-	for range s.Below(5) {
-		var arcs []api.Arc
-		for range s.Below(6) {
-			to := []int{0, 1, 2, 3, 4, -1, -2, 5, math.MaxInt, math.MinInt}[s.Below(10)]
-			arcs = append(arcs, arc(bytes[s.Below(7)], bytes[s.Below(7)], to))
-		}
-		m = append(m, state([]uint64{0, 1, 2, 1 << 63, math.MaxUint64}[s.Below(5)], arcs...))
-	}
-	return m
-}
-
-// sound is a machine that Check accepts.
-func sound(s *drawn.Source) api.Machine {
-	m := make(api.Machine, 1+s.Below(6))
-	for i := range m {
-		var to [256]int
-		target := -1
-		for b := range to {
-			if s.Below(40) == 0 || b == 'a' || b == 'b' || b == 'c' || b == 'd' || b == 255 {
-				target = s.Below(len(m)+1) - 1
-			}
-			to[b] = target
-		}
-		m[i] = state(uint64(s.Below(3)), arcsOf(to)...)
-	}
-	return m
-}
-
-// bytesOf is a text of at most so many bytes, of those by which odd machines go and some others.
-func bytesOf(s *drawn.Source, most int) string {
-	var out []byte
-	for range s.Below(most + 1) {
-		out = append(out, "\x00\x01aabbcc\xfe\xffxyz"[s.Below(13)])
-	}
-	return string(out)
-}

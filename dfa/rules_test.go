@@ -77,46 +77,26 @@ func TestOfDoesNotModifyPatterns(t *testing.T) {
 			if !drawn.Whole(arg, before) {
 				t.Fatalf("Of modified %s", pattern.Show(n))
 			}
-			want := copied(got)
+			want := drawn.CopyMachine(got)
 			drawn.Spoil(arg)
-			if again, f := dfa.Of(n, limit); !same(got, want) || !same(again, want) || e != f {
+			if again, f := dfa.Of(n, limit); !drawn.SameMachines(got, want) || !drawn.SameMachines(again, want) || e != f {
 				t.Fatalf("Of(%s) changed with its argument", pattern.Show(n))
 			}
 		}
 	}
 }
 
-// roomy is a machine whose lists all have more room than they use, with arcs and states beyond their ends.
-func roomy(m api.Machine) api.Machine {
-	states := make(api.Machine, len(m), len(m)+1)
-	states[:len(m)+1][len(m)] = state(5, arc('a', 'a', 0))
-	for i, s := range m {
-		arcs := append(slices.Clone(s.Arcs), arc('a', 'b', 0), arc('b', 'z', 1))
-		states[i] = state(s.Accept, arcs[:len(s.Arcs)]...)
-	}
-	return states
-}
-
-// beyond is all that a roomy machine has, also beyond the ends of its lists.
-func beyond(m api.Machine) api.Machine {
-	all := slices.Clone(m[:len(m)+1])
-	for i := range m {
-		all[i].Arcs = m[i].Arcs[:len(m[i].Arcs)+2]
-	}
-	return all
-}
-
 func TestMachinesAreNotModified(t *testing.T) {
 	s := drawn.Source(5)
 	for i := range 1000 {
-		m := odd(&s)
+		m := s.OddMachine()
 		if i%2 == 0 {
-			m = sound(&s)
+			m = s.Machine(6)
 		}
-		arg, want := roomy(m), copied(beyond(roomy(m)))
-		e, next, text := dfa.Check(arg), dfa.Next(arg, 0, 'a'), bytesOf(&s, 9)
+		arg, want := drawn.RoomyMachine(m), drawn.CopyMachine(drawn.WholeRoom(drawn.RoomyMachine(m)))
+		e, next, text := dfa.Check(arg), dfa.Next(arg, 0, 'a'), s.Bytes(9)
 		at, whole := dfa.Run(arg, text), dfa.Whole(arg, text)
-		if !same(beyond(arg), want) {
+		if !drawn.SameMachines(drawn.WholeRoom(arg), want) {
 			t.Fatalf("a call modified %v", m)
 		}
 		// Another machine in the same memory must be walked as what it is.
@@ -133,32 +113,15 @@ func TestMachinesAreNotModified(t *testing.T) {
 	}
 }
 
-// spoil overwrites the whole room of a machine's lists.
-func spoil(m api.Machine) {
-	for i := range m {
-		arcs := m[i].Arcs[:cap(m[i].Arcs)]
-		for j := range arcs {
-			arcs[j] = arc('q', 'q', 77)
-		}
-	}
-	m = m[:cap(m)]
-	for i := range m {
-		m[i] = state(9)
-	}
-}
-
 func TestListsOfMachinesAreApart(t *testing.T) {
 	for _, n := range append(patterns(t, 400), parse(t, "[ab]*a[ab]{4}"), regex.Lit("aaaaaaaa")) {
 		m, e := dfa.Of(n, 300)
 		if e != api.OK {
 			continue
 		}
-		want := copied(m)
+		want := drawn.CopyMachine(m)
 		for i := range m {
-			arcs := m[i].Arcs[:cap(m[i].Arcs)]
-			for j := range arcs {
-				arcs[j] = arc('q', 'q', 77)
-			}
+			drawn.SpoilArcs(m[i].Arcs)
 			m[i].Arcs = nil
 			for j := i + 1; j < len(m); j++ {
 				if !slices.Equal(m[j].Arcs, want[j].Arcs) {
@@ -172,20 +135,17 @@ func TestListsOfMachinesAreApart(t *testing.T) {
 func TestNothingIsKeptFromCallToCall(t *testing.T) {
 	for _, n := range patterns(t, 400) {
 		m, e := dfa.Of(n, 300)
-		want := copied(m)
-		spoil(m)
-		if again, f := dfa.Of(n, 300); e != f || !same(again, want) {
+		want := drawn.CopyMachine(m)
+		drawn.SpoilMachine(m)
+		if again, f := dfa.Of(n, 300); e != f || !drawn.SameMachines(again, want) {
 			t.Fatalf("Of(%s) changed with an earlier result", pattern.Show(n))
 		}
 	}
 	to := table(-1, arc('a', 'c', 1), arc('d', 'f', 2), arc(255, 255, 0))
 	first, second := dfa.Arcs(to), dfa.Arcs(to)
-	all := first[:cap(first)]
-	for i := range all {
-		all[i] = arc('q', 'q', 77)
-	}
-	if !slices.Equal(second, arcsOf(to)) {
+	drawn.SpoilArcs(first)
+	if !slices.Equal(second, drawn.ArcsOf(to)) {
 		t.Error("two lists of Arcs share memory")
 	}
-	mustArcs(t, "the same targets again", to, arcsOf(to)...)
+	mustArcs(t, "the same targets again", to, drawn.ArcsOf(to)...)
 }

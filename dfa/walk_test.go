@@ -145,14 +145,14 @@ func TestRunOfDrawnMachines(t *testing.T) {
 	s := drawn.Source(3)
 	far, whole := 0, 0
 	for i := range 4000 {
-		m := odd(&s)
+		m := s.OddMachine()
 		if i%2 == 0 {
-			m = sound(&s)
+			m = s.Machine(6)
 		}
 		for range 20 {
 			at, b := s.Below(9)-2, uint8(s.Below(256))
 			mustNext(t, m, at, b, nextOf(m, at, b))
-			text := bytesOf(&s, 8)
+			text := s.Bytes(8)
 			mustRun(t, m, text, runOf(m, text))
 			mustBeWhole(t, m, text, wholeOf(m, text))
 			if len(text) > 3 && runOf(m, text) >= 0 {

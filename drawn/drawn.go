@@ -1,4 +1,4 @@
-// Package drawn makes patterns and texts for the tests of several packages, the same ones in each run.
+// Package drawn makes patterns, machines and texts for the tests of several packages, the same ones in each run.
 package drawn
 
 import (
