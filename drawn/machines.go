@@ -41,6 +41,26 @@ func (s *Source) Machine(most int) api.Machine {
 	return m
 }
 
+// RejectedMachines are machines that dfa.Check rejects, by what is wrong with them. All of them would end something if they were walked.
+func RejectedMachines() map[string]api.Machine {
+	arc := func(lo, hi uint8, to int) api.Arc { return api.Arc{Lo: lo, Hi: hi, To: to} }
+	state := func(accept uint64, arcs ...api.Arc) api.State { return api.State{Accept: accept, Arcs: arcs} }
+	many := make(api.Machine, api.MaxStates+1)
+	many[0].Accept = 1
+	return map[string]api.Machine{
+		"too many states":            many,
+		"an arc to no state":         {state(1, arc('a', 'a', 1))},
+		"an arc to -1":               {state(1, arc('a', 'a', -1))},
+		"an arc back":                {state(1, arc('b', 'a', 0))},
+		"arcs that meet":             {state(1, arc('a', 'c', 1), arc('c', 'd', 0)), state(2)},
+		"arcs in another order":      {state(1, arc('b', 'b', 1), arc('a', 'a', 1)), state(2)},
+		"two arcs that are one":      {state(1, arc('a', 'a', 1), arc('b', 'b', 1)), state(2)},
+		"two arcs that are one at 0": {state(1), state(2, arc(0, 0, 0), arc(1, 1, 0))},
+		"wrong where nobody comes":   {state(1), state(2, arc('a', 'a', 2))},
+		"wrong behind an a":          {state(0, arc('a', 'a', 1)), state(3, arc('z', 'y', 0))},
+	}
+}
+
 // Bytes is a text of at most so many bytes, of those by which drawn machines go and some others.
 func (s *Source) Bytes(most int) string {
 	var out []byte

@@ -246,24 +246,6 @@ func machines(t *testing.T, drawnOnes int) []api.Machine {
 	return l
 }
 
-// rejected are machines that dfa.Check rejects, all of which would end something if they were walked.
-func rejected() map[string]api.Machine {
-	many := make(api.Machine, api.MaxStates+1)
-	many[0].Accept = 1
-	return map[string]api.Machine{
-		"too many states":            many,
-		"an arc to no state":         {state(1, by('a', 1))},
-		"an arc to -1":               {state(1, by('a', -1))},
-		"an arc back":                {state(1, arc('b', 'a', 0))},
-		"arcs that meet":             {state(1, arc('a', 'c', 1), arc('c', 'd', 0)), state(2)},
-		"arcs in another order":      {state(1, by('b', 1), by('a', 1)), state(2)},
-		"two arcs that are one":      {state(1, by('a', 1), by('b', 1)), state(2)},
-		"two arcs that are one at 0": {state(1), state(2, by(0, 0), by(1, 0))},
-		"wrong where nobody comes":   {state(1), state(2, by('a', 2))},
-		"wrong behind an a":          {state(0, by('a', 1)), state(3, arc('z', 'y', 0))},
-	}
-}
-
 // mustBe holds that Least of a machine is a certain one.
 func mustBe(t *testing.T, name string, m, want api.Machine) {
 	t.Helper()

@@ -14,7 +14,7 @@ import (
 // What dfa.Check rejects is like a machine without states.
 
 func TestRejectedMachines(t *testing.T) {
-	for name, m := range rejected() {
+	for name, m := range drawn.RejectedMachines() {
 		if dfa.Check(m) != api.ErrCode {
 			t.Fatalf("Check accepts %s", name)
 		}
@@ -29,7 +29,7 @@ func TestRejectedMachines(t *testing.T) {
 		mustBeAlike(t, name+" and what ends nothing", m, api.Machine{state(0, arc(0, 255, 0))})
 		mustDiffer(t, name+" and a*", m, machineOf(t, "a*"), "")
 		mustDiffer(t, name+" and bab", m, machineOf(t, "bab"), "bab")
-		for other, n := range rejected() {
+		for other, n := range drawn.RejectedMachines() {
 			mustBeAlike(t, name+" and "+other, m, n)
 		}
 	}
