@@ -128,6 +128,19 @@ func SpoilArcs(l []api.Arc) {
 	}
 }
 
+// SharesLists tells whether two states of a machine share memory, which spoils the machine.
+func SharesLists(m api.Machine) bool {
+	want := CopyMachine(m)
+	for i := range m {
+		SpoilArcs(m[i].Arcs)
+		m[i].Arcs, want[i].Arcs = nil, nil
+		if !SameMachines(m[i:], want[i:]) {
+			return true
+		}
+	}
+	return false
+}
+
 // SpoilMachine overwrites the whole room of a machine's lists.
 func SpoilMachine(m api.Machine) {
 	for i := range m {

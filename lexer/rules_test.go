@@ -80,14 +80,8 @@ func TestMachinesAreNotModified(t *testing.T) {
 func mustBeApart(t *testing.T, m api.Machine) {
 	t.Helper()
 	want := drawn.CopyMachine(m)
-	for i := range m {
-		drawn.SpoilArcs(m[i].Arcs)
-		m[i].Arcs = nil
-		for j := i + 1; j < len(m); j++ {
-			if !slices.Equal(m[j].Arcs, want[j].Arcs) {
-				t.Fatalf("states %d and %d of %v share memory", i, j, want)
-			}
-		}
+	if drawn.SharesLists(m) {
+		t.Fatalf("states of %v share memory", want)
 	}
 }
 
