@@ -164,7 +164,7 @@ func TestMachinesComeBack(t *testing.T) {
 	mustComeBack(t, "no states", nil, nil)
 	mustComeBack(t, "a state", api.Machine{state(5)}, api.Machine{state(5)})
 	for _, text := range []string{"[a-c]x", "if|[a-z]+", "(a|b)*abb", "~(.*ab.*)", "[^\\x00]*\\xff", "a{32}{32}", "[ab]*a[ab]{11}"} {
-		m := machineOf(t, text)
+		m := drawn.MachineOf(text)
 		mustComeBack(t, text, m, m)
 	}
 	for _, apart := range []int{1, 9, 100} {
@@ -192,7 +192,7 @@ func TestMachinesComeBack(t *testing.T) {
 
 // What is wanted is what dfa.Arcs makes of where Next leads: of a sound machine that is its own arcs.
 func TestDrawnMachinesComeBack(t *testing.T) {
-	for _, m := range soundMachines(t, 800) {
+	for _, m := range drawn.SoundMachines(800) {
 		mustComeBack(t, "a sound machine", m, m)
 		mustComeBack(t, "a least machine", minim.Least(m), minim.Least(m))
 		if t.Failed() {
@@ -200,7 +200,7 @@ func TestDrawnMachinesComeBack(t *testing.T) {
 		}
 	}
 	other := 0
-	for _, m := range oddMachines(3000) {
+	for _, m := range drawn.OddMachines(3000) {
 		want := make(api.Machine, len(m))
 		for i := range m {
 			var to [256]int
@@ -227,7 +227,7 @@ func TestDrawnMachinesComeBack(t *testing.T) {
 
 // With two classes made one, no element of a row fits both, so that no table leads back to the machine.
 func TestNumberOfClassesIsLeast(t *testing.T) {
-	for _, m := range append(soundMachines(t, 150), bitStates(1), machineOf(t, "[a-c]x")) {
+	for _, m := range append(drawn.SoundMachines(150), bitStates(1), drawn.MachineOf("[a-c]x")) {
 		class, count := classes.Of(m)
 		table := classes.Table(m)
 		if count < 1 || count > 256 {

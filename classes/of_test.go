@@ -26,17 +26,17 @@ func TestClasses(t *testing.T) {
 		m    api.Machine
 		want [256]uint8
 	}{
-		"[a-c]x":                       {machineOf(t, "[a-c]x"), classed(0, arc('a', 'c', 1), by('x', 2))},
-		"a*":                           {machineOf(t, "a*"), classed(0, by('a', 1))},
-		"if|[a-z]+":                    {machineOf(t, "if|[a-z]+"), classed(0, arc('a', 'z', 1), by('f', 2), by('i', 3))},
-		"(a|c|e)b":                     {machineOf(t, "(a|c|e)b"), classed(0, by('a', 1), by('b', 2), by('c', 1), by('e', 1))},
-		"ba":                           {machineOf(t, "ba"), classed(0, by('a', 1), by('b', 2))},
-		"all bytes ~a":                 {machineOf(t, "~a"), classed(0, by('a', 1))},
-		"byte 0":                       {machineOf(t, "\\x00"), classed(1, by(0, 0))},
-		"byte 255":                     {machineOf(t, "\\xff"), classed(0, by(255, 1))},
-		"bytes 0 and 255 alike":        {machineOf(t, "[\\x00\\xff]"), classed(1, by(0, 0), by(255, 0))},
-		"bytes 0 and 255, not alike":   {machineOf(t, "\\x00\\xff"), classed(1, by(0, 0), by(255, 2))},
-		"all but bytes 0 and 255":      {machineOf(t, "[\\x01-\\xfe]"), classed(1, by(0, 0), by(255, 0))},
+		"[a-c]x":                       {drawn.MachineOf("[a-c]x"), classed(0, arc('a', 'c', 1), by('x', 2))},
+		"a*":                           {drawn.MachineOf("a*"), classed(0, by('a', 1))},
+		"if|[a-z]+":                    {drawn.MachineOf("if|[a-z]+"), classed(0, arc('a', 'z', 1), by('f', 2), by('i', 3))},
+		"(a|c|e)b":                     {drawn.MachineOf("(a|c|e)b"), classed(0, by('a', 1), by('b', 2), by('c', 1), by('e', 1))},
+		"ba":                           {drawn.MachineOf("ba"), classed(0, by('a', 1), by('b', 2))},
+		"all bytes ~a":                 {drawn.MachineOf("~a"), classed(0, by('a', 1))},
+		"byte 0":                       {drawn.MachineOf("\\x00"), classed(1, by(0, 0))},
+		"byte 255":                     {drawn.MachineOf("\\xff"), classed(0, by(255, 1))},
+		"bytes 0 and 255 alike":        {drawn.MachineOf("[\\x00\\xff]"), classed(1, by(0, 0), by(255, 0))},
+		"bytes 0 and 255, not alike":   {drawn.MachineOf("\\x00\\xff"), classed(1, by(0, 0), by(255, 2))},
+		"all but bytes 0 and 255":      {drawn.MachineOf("[\\x01-\\xfe]"), classed(1, by(0, 0), by(255, 0))},
 		"halves":                       {api.Machine{state(0, arc(0, 127, 5), arc(128, 255, 0))}, classed(0, arc(128, 255, 1))},
 		"halves, only the second goes": {api.Machine{state(0, arc(128, 255, 0))}, classed(0, arc(128, 255, 1))},
 		"halves, only the first goes":  {api.Machine{state(0, arc(0, 127, 0))}, classed(0, arc(128, 255, 1))},
@@ -202,7 +202,7 @@ func TestManyStates(t *testing.T) {
 		m[count/2].Arcs = []api.Arc{by('b', 0), arc('a', 'z', 5)}
 		mustClass(t, "a ring that tells b in its middle, too", m, classed(0, arc('a', 'y', 1), by('b', 2), by('z', 3)))
 	}
-	large := machineOf(t, "[ab]*a[ab]{11}")
+	large := drawn.MachineOf("[ab]*a[ab]{11}")
 	if len(large) != 4096 {
 		t.Errorf("%d states", len(large))
 	}
@@ -211,7 +211,7 @@ func TestManyStates(t *testing.T) {
 
 func TestClassesOfDrawnMachines(t *testing.T) {
 	few, many := 0, 0
-	for _, m := range append(soundMachines(t, 400), oddMachines(2000)...) {
+	for _, m := range append(drawn.SoundMachines(400), drawn.OddMachines(2000)...) {
 		want, lows := classesOf(m)
 		mustClass(t, "a drawn machine", m, want)
 		if t.Failed() {
@@ -231,7 +231,7 @@ func TestClassesOfDrawnMachines(t *testing.T) {
 
 // Two bytes are in one class if and only if they lead to the same from each state.
 func TestPairsOfBytes(t *testing.T) {
-	for _, m := range append(soundMachines(t, 60), oddMachines(300)...) {
+	for _, m := range append(drawn.SoundMachines(60), drawn.OddMachines(300)...) {
 		class, count := classes.Of(m)
 		var seen [256]bool
 		for b := range 256 {
@@ -310,7 +310,7 @@ func TestLowsOfDrawnClasses(t *testing.T) {
 		class := drawnClass(&s)
 		mustHaveLows(t, "drawn classes", class, lowsOf(class)...)
 	}
-	for _, m := range append(soundMachines(t, 200), oddMachines(500)...) {
+	for _, m := range append(drawn.SoundMachines(200), drawn.OddMachines(500)...) {
 		class, count := classes.Of(m)
 		_, lows := classesOf(m)
 		mustHaveLows(t, "a machine's classes", class, lows...)

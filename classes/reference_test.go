@@ -3,12 +3,10 @@ package classes_test
 import (
 	"math"
 	"slices"
-	"testing"
 
 	"homograph/api"
 	"homograph/dfa"
 	"homograph/drawn"
-	"homograph/pattern"
 )
 
 func state(accept uint64, arcs ...api.Arc) api.State { return api.State{Accept: accept, Arcs: arcs} }
@@ -139,58 +137,6 @@ func endsOf(m api.Machine) []uint64 {
 		ends = append(ends, s.Accept)
 	}
 	return ends
-}
-
-// machineOf is the machine of a pattern.
-func machineOf(t *testing.T, text string) api.Machine {
-	t.Helper()
-	n, e, at := pattern.Parse(text)
-	if e != api.OK {
-		t.Fatalf("%q is no pattern: %d, %d", text, e, at)
-	}
-	m, e := dfa.Of(n, api.MaxStates)
-	if e != api.OK {
-		t.Fatalf("Of(%q): %d", text, e)
-	}
-	return m
-}
-
-// soundMachines are machines that dfa.Check accepts: of patterns of all kinds, and drawn ones.
-func soundMachines(t *testing.T, drawnOnes int) []api.Machine {
-	t.Helper()
-	var l []api.Machine
-	for _, text := range drawn.PatternTexts() {
-		l = append(l, machineOf(t, text))
-	}
-	s := drawn.Source(200)
-	for i := range drawnOnes {
-		l = append(l, s.Machine([]int{2, 6, 20}[i%3]))
-	}
-	for i, m := range l {
-		if dfa.Check(m) != api.OK {
-			t.Fatalf("machine %d isn't sound", i)
-		}
-	}
-	return l
-}
-
-// oddMachines are machines that nobody need accept, those that dfa.Check rejects first.
-func oddMachines(drawnOnes int) []api.Machine {
-	rejected := drawn.RejectedMachines()
-	var names []string
-	for name := range rejected {
-		names = append(names, name)
-	}
-	slices.Sort(names)
-	var l []api.Machine
-	for _, name := range names {
-		l = append(l, rejected[name])
-	}
-	s := drawn.Source(201)
-	for range drawnOnes {
-		l = append(l, s.OddMachine())
-	}
-	return l
 }
 
 // drawnClass is a class of each byte as a caller may make it: in any order, with gaps, few or many.

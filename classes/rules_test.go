@@ -44,7 +44,7 @@ func spoilTable(table [][]int) {
 }
 
 func TestMachinesAreNotModified(t *testing.T) {
-	for _, m := range append(soundMachines(t, 200), oddMachines(600)...) {
+	for _, m := range append(drawn.SoundMachines(200), drawn.OddMachines(600)...) {
 		arg, want := drawn.RoomyMachine(m), drawn.CopyMachine(drawn.WholeRoom(drawn.RoomyMachine(m)))
 		class, count := classes.Of(arg)
 		table := classes.Table(arg)
@@ -122,7 +122,7 @@ func TestListsOfMachinesAreApart(t *testing.T) {
 }
 
 func TestRowsAreApart(t *testing.T) {
-	for _, m := range append(append(soundMachines(t, 200), oddMachines(600)...), make(api.Machine, 100), bitStates(2)) {
+	for _, m := range append(append(drawn.SoundMachines(200), drawn.OddMachines(600)...), make(api.Machine, 100), bitStates(2)) {
 		arg := drawn.RoomyMachine(m)
 		whole := drawn.CopyMachine(drawn.WholeRoom(arg))
 		table := classes.Table(arg)
@@ -162,7 +162,7 @@ func TestNothingIsKeptFromCallToCall(t *testing.T) {
 		lows = append(other, 5)
 		mustHaveLows(t, "the same classes once more", class, lows[:len(lows)-1]...)
 	}
-	m := machineOf(t, "[a-c]x")
+	m := drawn.MachineOf("[a-c]x")
 	first, second := classes.Table(m), classes.Table(m)
 	spoilTable(first)
 	if !sameTables(second, tableOf(m)) {

@@ -27,14 +27,14 @@ func TestTable(t *testing.T) {
 	mustTable(t, "a state without arcs", api.Machine{state(1)}, []int{-1})
 	mustTable(t, "states without arcs", make(api.Machine, 3), []int{-1}, []int{-1}, []int{-1})
 	mustTable(t, "all bytes", api.Machine{state(0, arc(0, 255, 1)), state(1, arc(0, 255, 0))}, []int{1}, []int{0})
-	mustTable(t, "[a-c]x", machineOf(t, "[a-c]x"), []int{-1, 1, -1}, []int{-1, -1, 2}, []int{-1, -1, -1})
-	mustTable(t, "a*", machineOf(t, "a*"), []int{-1, 0})
-	mustTable(t, "~a", machineOf(t, "~a"), []int{1, 2}, []int{1, 1}, []int{1, 1})
+	mustTable(t, "[a-c]x", drawn.MachineOf("[a-c]x"), []int{-1, 1, -1}, []int{-1, -1, 2}, []int{-1, -1, -1})
+	mustTable(t, "a*", drawn.MachineOf("a*"), []int{-1, 0})
+	mustTable(t, "~a", drawn.MachineOf("~a"), []int{1, 2}, []int{1, 1}, []int{1, 1})
 	// From a class's least byte an arc may lead or not, in any state.
-	mustTable(t, "byte 0", machineOf(t, "\\x00"), []int{1, -1}, []int{-1, -1})
-	mustTable(t, "byte 255", machineOf(t, "\\xff"), []int{-1, 1}, []int{-1, -1})
-	mustTable(t, "bytes 0 and 255", machineOf(t, "\\x00\\xff"), []int{1, -1, -1}, []int{-1, -1, 2}, []int{-1, -1, -1})
-	mustTable(t, "all but byte 0", machineOf(t, "[^\\x00]"), []int{-1, 1}, []int{-1, -1})
+	mustTable(t, "byte 0", drawn.MachineOf("\\x00"), []int{1, -1}, []int{-1, -1})
+	mustTable(t, "byte 255", drawn.MachineOf("\\xff"), []int{-1, 1}, []int{-1, -1})
+	mustTable(t, "bytes 0 and 255", drawn.MachineOf("\\x00\\xff"), []int{1, -1, -1}, []int{-1, -1, 2}, []int{-1, -1, -1})
+	mustTable(t, "all but byte 0", drawn.MachineOf("[^\\x00]"), []int{-1, 1}, []int{-1, -1})
 	mustTable(t, "a class that leads nowhere but at the end", api.Machine{state(0, by('a', 1)), state(0, by('a', 2)), state(1, arc(0, '`', 0), by('a', 1), arc('b', 255, 0))}, []int{-1, 1}, []int{-1, 2}, []int{0, 1})
 	mustTable(t, "falling targets", api.Machine{state(0, by('a', 2), by('b', 1), by('c', 0)), state(0), state(0)}, []int{-1, 2, 1, 0}, []int{-1, -1, -1, -1}, []int{-1, -1, -1, -1})
 	mustTable(t, "a state that isn't reached", api.Machine{state(0), state(0, by('b', 1))}, []int{-1, -1}, []int{-1, 1})
@@ -72,7 +72,7 @@ func TestLargeTables(t *testing.T) {
 }
 
 func TestTablesOfDrawnMachines(t *testing.T) {
-	for _, m := range append(soundMachines(t, 400), oddMachines(2000)...) {
+	for _, m := range append(drawn.SoundMachines(400), drawn.OddMachines(2000)...) {
 		mustTable(t, "a drawn machine", m, tableOf(m)...)
 		if t.Failed() {
 			t.Fatalf("wrong with %v", m)
@@ -82,7 +82,7 @@ func TestTablesOfDrawnMachines(t *testing.T) {
 
 // An element is what Next tells for each byte of its class.
 func TestElementsAreTargetsOfAllBytes(t *testing.T) {
-	for _, m := range append(soundMachines(t, 200), oddMachines(1000)...) {
+	for _, m := range append(drawn.SoundMachines(200), drawn.OddMachines(1000)...) {
 		class, count := classes.Of(m)
 		table := classes.Table(m)
 		if len(table) != len(m) {
@@ -222,7 +222,7 @@ func TestRunOfDrawnTables(t *testing.T) {
 func TestRunIsRunOfTheMachine(t *testing.T) {
 	s := drawn.Source(205)
 	long, beyond, below := 0, 0, 0
-	for _, m := range append(soundMachines(t, 500), oddMachines(3000)...) {
+	for _, m := range append(drawn.SoundMachines(500), drawn.OddMachines(3000)...) {
 		class, _ := classes.Of(m)
 		table := classes.Table(m)
 		texts := append(drawn.Texts("ab\xff", 2), s.Text(9), string([]byte{byte(s.Below(256)), byte(s.Below(256))}))
@@ -259,7 +259,7 @@ func TestLongTexts(t *testing.T) {
 	}{
 		{"a*", as, true}, {"a*", as + "b", false}, {"a*", "b" + as, false}, {"(ab)*", abs, true}, {"(ab)*", abs + "a", false}, {"(a|b)*abb", abs, false}, {"(a|b)*abb", abs + "b", true}, {"[ab]*a[ab]{8}", abs, false}, {"[ab]*a[ab]{8}", abs + "a", true}, {"(aa)*", as, true}, {"(aa)*", as[1:], false}, {"[^]*", abs, true}, {"a{32}{32}", as, false}, {"a{32}{32}", as[:1024], true},
 	} {
-		m := machineOf(t, c.pattern)
+		m := drawn.MachineOf(c.pattern)
 		class, _ := classes.Of(m)
 		at := classes.Run(class, classes.Table(m), c.text)
 		if got := at >= 0 && m[at].Accept != 0; got != c.want || at != dfa.Run(m, c.text) {

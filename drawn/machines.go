@@ -1,10 +1,13 @@
 package drawn
 
 import (
+	"maps"
 	"math"
 	"slices"
 
 	"homograph/api"
+	"homograph/dfa"
+	"homograph/pattern"
 )
 
 // oddBytes are the bytes at which the arcs of odd machines begin and end.
@@ -59,6 +62,43 @@ func RejectedMachines() map[string]api.Machine {
 		"wrong where nobody comes":   {state(1), state(2, arc('a', 'a', 2))},
 		"wrong behind an a":          {state(0, arc('a', 'a', 1)), state(3, arc('z', 'y', 0))},
 	}
+}
+
+// MachineOf is the machine of a pattern's text. A test that names a text that has none is wrong, and ends.
+func MachineOf(text string) api.Machine {
+	n, e, _ := pattern.Parse(text)
+	m, f := dfa.Of(n, api.MaxStates)
+	if e != api.OK || f != api.OK {
+		panic("no machine of " + text)
+	}
+	return m
+}
+
+// SoundMachines are machines that dfa.Check accepts: of patterns of all kinds, and so many drawn ones.
+func SoundMachines(drawnOnes int) []api.Machine {
+	var l []api.Machine
+	for _, text := range PatternTexts() {
+		l = append(l, MachineOf(text))
+	}
+	s := Source(200)
+	for i := range drawnOnes {
+		l = append(l, s.Machine([]int{2, 6, 20}[i%3]))
+	}
+	return l
+}
+
+// OddMachines are machines that nobody need accept: all that are rejected, and so many drawn ones.
+func OddMachines(drawnOnes int) []api.Machine {
+	rejected := RejectedMachines()
+	var l []api.Machine
+	for _, name := range slices.Sorted(maps.Keys(rejected)) {
+		l = append(l, rejected[name])
+	}
+	s := Source(201)
+	for range drawnOnes {
+		l = append(l, s.OddMachine())
+	}
+	return l
 }
 
 // Bytes is a text of at most so many bytes, of those by which drawn machines go and some others.

@@ -31,10 +31,10 @@ func TestDiffer(t *testing.T) {
 	} {
 		mustDiffer(t, name, c.a, c.b, c.want)
 	}
-	mustDiffer(t, "(ab)* and (ab)+", machineOf(t, "(ab)*"), machineOf(t, "(ab)+"), "")
-	mustDiffer(t, "a{3} and a{4}", machineOf(t, "a{3}"), machineOf(t, "a{4}"), "aaa")
-	mustDiffer(t, "[ab]*abb and [ab]*bab", machineOf(t, "[ab]*abb"), machineOf(t, "[ab]*bab"), "abb")
-	mustDiffer(t, "(aa)* and (aaa)*", machineOf(t, "(aa)*"), machineOf(t, "(aaa)*"), "aa")
+	mustDiffer(t, "(ab)* and (ab)+", drawn.MachineOf("(ab)*"), drawn.MachineOf("(ab)+"), "")
+	mustDiffer(t, "a{3} and a{4}", drawn.MachineOf("a{3}"), drawn.MachineOf("a{4}"), "aaa")
+	mustDiffer(t, "[ab]*abb and [ab]*bab", drawn.MachineOf("[ab]*abb"), drawn.MachineOf("[ab]*bab"), "abb")
+	mustDiffer(t, "(aa)* and (aaa)*", drawn.MachineOf("(aa)*"), drawn.MachineOf("(aaa)*"), "aa")
 }
 
 // Of the texts of as many bytes that differ, the one whose first other byte is less comes first, whatever comes behind it.
@@ -44,10 +44,10 @@ func TestShortestOfSeveral(t *testing.T) {
 		{"bb|ac|ca", "bb|ca", "ac"}, {"bb|ac|ca", "ac|ca", "bb"}, {"zz|aaa", "[]", "zz"}, {"zz|aaa", "zz", "aaa"}, {"ab*c|b", "b", "ac"}, {"[a-z]{3}", "[a-y]{3}", "aaz"}, {"[a-z]{3}", "[b-z]{3}", "aaa"}, {"[a-z]{3}", "a[a-z]{2}", "baa"}, {"[a-z]{3}", "[a-z]b[a-z]", "aaa"},
 		{"[a-z]{3}", "~b&[a-z]{3}|b", "b"}, {"(.*a.*){2}", "(.*a.*){3}", "aa"}, {"(.*a.*){2}&b.*", "(.*a.*){3}&b.*", "baa"}, {"[^]{2}", "[^]{3}", "\x00\x00"}, {"[^]{2}", "[^\\x00][^]", "\x00\x00"}, {"[^]{2}", "[^][^\\x00]", "\x00\x00"},
 	} {
-		mustDiffer(t, c.a+" and "+c.b, machineOf(t, c.a), machineOf(t, c.b), c.want)
+		mustDiffer(t, c.a+" and "+c.b, drawn.MachineOf(c.a), drawn.MachineOf(c.b), c.want)
 	}
 	for s, want := range map[string]string{"b|a": "a", "bb|ab": "ab", "ba|ab": "ab", "b|aa": "b", "aaa|ba": "ba", "c(b|a)|d": "d", "c(b|a)|dddd": "ca", "a*b": "b", "a+b*c": "ac", "[ab]*abb": "abb", "[ba]{4}": "aaaa", ".*xyz.*": "xyz", "": "", "a*": "", "~a": "", "~()": "\x00", "~(a?)&a.*": "a\x00", "[^]{3}": "\x00\x00\x00", "(.*b.*)&(.*a.*)": "ab"} {
-		mustEnd(t, s, machineOf(t, s), want, true)
+		mustEnd(t, s, drawn.MachineOf(s), want, true)
 	}
 }
 
@@ -99,15 +99,15 @@ func TestMachinesWithoutStates(t *testing.T) {
 		for _, b := range none {
 			mustBeAlike(t, "two that end nothing", a, b)
 		}
-		mustDiffer(t, "one that ends nothing, and aab", a, machineOf(t, "aab"), "aab")
-		mustDiffer(t, "one that ends nothing, and a*", a, machineOf(t, "a*"), "")
+		mustDiffer(t, "one that ends nothing, and aab", a, drawn.MachineOf("aab"), "aab")
+		mustDiffer(t, "one that ends nothing, and a*", a, drawn.MachineOf("a*"), "")
 	}
 }
 
 func TestDifferOfDrawnMachines(t *testing.T) {
 	s := drawn.Source(83)
 	long, none := 0, 0
-	l := machines(t, 900)
+	l := machines(900)
 	for i, a := range l {
 		mustBeAlike(t, "a machine and itself", a, a)
 		mustBeAlike(t, "a machine and its like", a, shuffled(&s, blown(&s, a)))

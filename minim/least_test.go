@@ -43,7 +43,7 @@ func TestUseful(t *testing.T) {
 
 func TestUsefulOfDrawnMachines(t *testing.T) {
 	yes, no := 0, 0
-	for _, m := range machines(t, 1500) {
+	for _, m := range machines(1500) {
 		want := usefulOf(m)
 		mustUse(t, "a drawn machine", m, want...)
 		if t.Failed() {
@@ -225,7 +225,7 @@ func TestStatesThatAreAlikeForLong(t *testing.T) {
 func TestLeastOfDrawnMachines(t *testing.T) {
 	s := drawn.Source(81)
 	merged, kept := 0, 0
-	for _, m := range machines(t, 1500) {
+	for _, m := range machines(1500) {
 		got, want := minim.Least(m), leastOf(m)
 		if dfa.Check(m) != api.OK || !drawn.SameMachines(got, want) || dfa.Check(got) != api.OK {
 			t.Fatalf("Least of %v = %v, want %v", m, got, want)
@@ -248,7 +248,7 @@ func TestLeastOfDrawnMachines(t *testing.T) {
 
 // No two states of a Least are alike, and none is like nowhere: from each of them, taken as the first one, another text is the shortest to differ.
 func TestNoTwoStatesOfLeastAreAlike(t *testing.T) {
-	for _, m := range machines(t, 500) {
+	for _, m := range machines(500) {
 		least := minim.Least(m)
 		for i := range least {
 			from := begunAt(least, i)
@@ -289,7 +289,7 @@ func begunAt(m api.Machine, first int) api.Machine {
 // P8.3
 
 func TestLeastOfLeast(t *testing.T) {
-	for _, m := range machines(t, 1000) {
+	for _, m := range machines(1000) {
 		least := minim.Least(m)
 		mustBe(t, "a Least", least, least)
 		mustBeAlike(t, "a machine and its Least", m, least)
@@ -343,10 +343,10 @@ func TestLeastOfPatternsThatMatchTheSame(t *testing.T) {
 		{"a|b", "[ab]", "b|a|a", "~(~a&~b)"}, {"(a|b)*", "(a*b*)*", "[ab]*", "(a*|b)*", "~(~([ab]*))", "(a|b|ab)*"}, {"aa*", "a+", "a*a", "a*&~()", "aa*|a(a*|)"}, {"", "()", "[]*", "a{0}", "a*&b*"}, {"[]", "a&b", "ab&ac", "a&~([^]*)"},
 		{"[^]*", "~[]", "~(a&b)", "~(ab&ac)", "a|~a"}, {"a?a?a?", "a{0,3}", "(a|aa|aaa|)", "a*&~(aaaa+)"}, {"(ab)*a", "a(ba)*"}, {".*b.*&[ab]*", "[ab]*b[ab]*", "a*b(a|b)*"}, {"(aa)*&(aaa)*", "(a{6})*", "(aaaaaa)*"},
 	} {
-		first := minim.Least(machineOf(t, l[0]))
+		first := minim.Least(drawn.MachineOf(l[0]))
 		for _, s := range l[1:] {
-			mustBe(t, s, machineOf(t, s), first)
-			mustBeAlike(t, l[0]+" and "+s, machineOf(t, l[0]), machineOf(t, s))
+			mustBe(t, s, drawn.MachineOf(s), first)
+			mustBeAlike(t, l[0]+" and "+s, drawn.MachineOf(l[0]), drawn.MachineOf(s))
 		}
 	}
 }

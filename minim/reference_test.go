@@ -8,7 +8,6 @@ import (
 	"homograph/dfa"
 	"homograph/drawn"
 	"homograph/minim"
-	"homograph/pattern"
 )
 
 func state(accept uint64, arcs ...api.Arc) api.State { return api.State{Accept: accept, Arcs: arcs} }
@@ -17,17 +16,6 @@ func arc(lo, hi uint8, to int) api.Arc { return api.Arc{Lo: lo, Hi: hi, To: to} 
 
 // by is an arc by one byte.
 func by(b uint8, to int) api.Arc { return arc(b, b, to) }
-
-// machineOf is the machine that dfa makes of a pattern.
-func machineOf(t *testing.T, s string) api.Machine {
-	t.Helper()
-	n, e, _ := pattern.Parse(s)
-	m, f := dfa.Of(n, api.MaxStates)
-	if e != api.OK || f != api.OK {
-		t.Fatalf("%q has no machine: %d, %d", s, e, f)
-	}
-	return m
-}
 
 // resultOf is the result of a machine for a text.
 func resultOf(m api.Machine, s string) uint64 {
@@ -226,11 +214,10 @@ func endRarely(s *drawn.Source, m api.Machine) {
 }
 
 // machines are sound machines of all sorts, first of patterns and then drawn ones.
-func machines(t *testing.T, drawnOnes int) []api.Machine {
-	t.Helper()
+func machines(drawnOnes int) []api.Machine {
 	l := []api.Machine{nil, {}, {state(0)}, {state(1)}, {state(0, arc(0, 255, 0))}, {state(7, arc(0, 255, 0))}, {state(0, by(0, 1), by(255, 1)), state(1 << 63)}}
 	for _, s := range drawn.PatternTexts() {
-		l = append(l, machineOf(t, s))
+		l = append(l, drawn.MachineOf(s))
 	}
 	s := drawn.Source(80)
 	for i := range drawnOnes {

@@ -27,8 +27,8 @@ func TestRejectedMachines(t *testing.T) {
 		mustEnd(t, name, m, "", false)
 		mustBeAlike(t, name+" and itself", m, m)
 		mustBeAlike(t, name+" and what ends nothing", m, api.Machine{state(0, arc(0, 255, 0))})
-		mustDiffer(t, name+" and a*", m, machineOf(t, "a*"), "")
-		mustDiffer(t, name+" and bab", m, machineOf(t, "bab"), "bab")
+		mustDiffer(t, name+" and a*", m, drawn.MachineOf("a*"), "")
+		mustDiffer(t, name+" and bab", m, drawn.MachineOf("bab"), "bab")
 		for other, n := range drawn.RejectedMachines() {
 			mustBeAlike(t, name+" and "+other, m, n)
 		}
@@ -88,13 +88,13 @@ func TestMaxStates(t *testing.T) {
 	mustUse(t, "one more than MaxStates", append(row[:most:most], state(1)))
 
 	// No two of these states are alike: they keep which of the last twelve bytes were an a.
-	m := machineOf(t, "[ab]*a[ab]{11}")
+	m := drawn.MachineOf("[ab]*a[ab]{11}")
 	mustBe(t, "a pattern of MaxStates", m, m)
 	mustEnd(t, "a pattern of MaxStates", m, strings.Repeat("a", 12), true)
 	mustBeAlike(t, "a pattern of MaxStates and itself", m, m)
 	s := drawn.Source(91)
 	mustBe(t, "a pattern of MaxStates in another order", shuffled(&s, m), m)
-	mustDiffer(t, "two patterns of many states", m, machineOf(t, "[ab]*a[ab]{10}"), strings.Repeat("a", 11))
+	mustDiffer(t, "two patterns of many states", m, drawn.MachineOf("[ab]*a[ab]{10}"), strings.Repeat("a", 11))
 }
 
 // An arc for every byte of as many states as may be, with ends that are drawn: rarely so that all are alike.
@@ -151,7 +151,7 @@ func TestStatesThatComeApartOneByOne(t *testing.T) {
 
 func TestMachinesAreNotModified(t *testing.T) {
 	s := drawn.Source(93)
-	l := append(machines(t, 300), machineOf(t, "[ab]*a[ab]{4}"))
+	l := append(machines(300), drawn.MachineOf("[ab]*a[ab]{4}"))
 	for i := range 300 {
 		if m := s.OddMachine(); i%3 > 0 {
 			l = append(l, m)
@@ -185,7 +185,7 @@ func TestMachinesAreNotModified(t *testing.T) {
 }
 
 func TestListsOfLeastAreApart(t *testing.T) {
-	for _, m := range append(machines(t, 300), machineOf(t, "[ab]*a[ab]{4}")) {
+	for _, m := range append(machines(300), drawn.MachineOf("[ab]*a[ab]{4}")) {
 		arg := drawn.RoomyMachine(m)
 		whole := drawn.CopyMachine(drawn.WholeRoom(arg))
 		least := minim.Least(arg)
@@ -200,7 +200,7 @@ func TestListsOfLeastAreApart(t *testing.T) {
 }
 
 func TestNothingIsKeptFromCallToCall(t *testing.T) {
-	for _, m := range machines(t, 300) {
+	for _, m := range machines(300) {
 		least, useful := minim.Least(m), minim.Useful(m)
 		wantLeast, wantUseful := drawn.CopyMachine(least), slices.Clone(useful)
 		drawn.SpoilMachine(least)
