@@ -338,11 +338,11 @@ func drawnText(s *drawn.Source) string {
 	var out strings.Builder
 	for range s.Below(12) {
 		if s.Below(3) > 0 {
-			out.WriteString(drawnGap(s))
+			out.WriteString(s.Gap())
 		}
 		out.WriteString(joinOf([]words.Word{drawnWord(s)}))
 		if s.Below(60) == 0 {
-			out.WriteString(pick(s, "/", "\\", "!", "\xff", "é", "\x00", "1", "\n", "12345", "\v"))
+			out.WriteString(s.Pick("/", "\\", "!", "\xff", "é", "\x00", "1", "\n", "12345", "\v"))
 		}
 	}
 	return out.String()

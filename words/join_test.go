@@ -86,7 +86,7 @@ func TestIsNameOfDrawnTexts(t *testing.T) {
 	for range 60000 {
 		text := several(&s, "abcXYZ_019", 0, 40)
 		if s.Below(3) == 0 {
-			text += pick(&s, " ", "\n", "#", ";", "é", "\x80")
+			text += s.Pick(" ", "\n", "#", ";", "é", "\x80")
 		}
 		l, _, _ := words.All(text)
 		want := slices.Equal(l, []words.Word{name(text, 0)})

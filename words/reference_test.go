@@ -120,9 +120,6 @@ func everyByte() []string {
 	return l
 }
 
-// pick is one of several texts.
-func pick(s *drawn.Source, l ...string) string { return l[s.Below(len(l))] }
-
 // several are some of the bytes of an alphabet, so many at least and at most.
 func several(s *drawn.Source, alphabet string, least, most int) string {
 	b := make([]byte, least+s.Below(most-least+1))
@@ -141,23 +138,14 @@ func drawnWord(s *drawn.Source) words.Word {
 	case 1:
 		text := ""
 		for range s.Below(6) {
-			text += pick(s, "a", "0", " ", "\t", "#", ":", ";", "|", `\/`, `\\`, `\n`, `\ `, `\#`, "[a-z]*", "\x00", "\x80", "\xff", "\\\xc3", "é", "\\\x00", "\v")
+			text += s.Pick("a", "0", " ", "\t", "#", ":", ";", "|", `\/`, `\\`, `\n`, `\ `, `\#`, "[a-z]*", "\x00", "\x80", "\xff", "\\\xc3", "é", "\\\x00", "\v")
 		}
 		return pattern(text, 0)
 	case 2:
-		return mark(pick(s, ":", "|", ";"), 0)
+		return mark(s.Pick(":", "|", ";"), 0)
 	}
 	most := []int{3, 31}[s.Below(2)]
 	return name(several(s, letters, 1, 1)+several(s, letters+"0189", 0, most), 0)
-}
-
-// drawnGap is separators, of which there is at least one.
-func drawnGap(s *drawn.Source) string {
-	gap := pick(s, " ", "\t", "\r", "\n", "\r\n", "#\n", "# a /b/ \\ ;\n", "#\r#\xff\x00\n")
-	for s.Below(3) == 0 {
-		gap += drawnGap(s)
-	}
-	return gap
 }
 
 // drawnWords are at most so many words, at 0.
